@@ -1,0 +1,1 @@
+"""Asitruns: one machine made into another while it runs."""

@@ -1,0 +1,1 @@
+"""The guest machine: its rows, and what they do."""
