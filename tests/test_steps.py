@@ -84,6 +84,11 @@ class Closed(Rows):
             with self.subTest(place=place):
                 self.faults(altered(state, place=place), "closed")
 
+    def test_numbers_somewhat_below_nought_are_no_cell_and_no_page(self):
+        self.faults(altered(state_with("put 0 0 1", place=15), place=-1), "closed")
+        self.faults(state_with("get 6 4 0", boxes=boxes_with(b4=-1)), "closed")
+        self.faults(state_with("right 5 1 7", boxes=boxes_with(b5=-1)), "closed")
+
     def test_no_cells_at_all(self):
         self.faults(begin((), ()), "closed")
 
