@@ -32,6 +32,8 @@ WALKED = set("range enumerate zip reversed".split())
 WALKERS = set("list tuple dict sorted sum any all enumerate zip min max".split())
 KEYWORDS = {"sorted": {"key", "reverse"}, "min": {"key", "default"}, "max": {"key", "default"},
             "sum": {"start"}, "enumerate": {"start"}, "zip": {"strict"}}
+UNUSED_VALUES = set("""items keys values pop update append clear extend insert remove reverse setdefault sort args
+    encode format""".split())
 STATEMENTS = (ast.Assign, ast.AugAssign, ast.If, ast.While, ast.For, ast.Return, ast.Break, ast.Continue, ast.Pass,
               ast.Raise, ast.Try, ast.Expr, ast.FunctionDef, ast.ClassDef, ast.ImportFrom)
 EXPRESSIONS = (ast.Constant, ast.List, ast.Tuple, ast.Dict, ast.Set, ast.BinOp, ast.UnaryOp, ast.BoolOp, ast.Compare,
@@ -223,6 +225,11 @@ def expression_faults(node, methods):
             found.append("L20")
     if isinstance(node, ast.Attribute) and node.attr in UNUSED_ATTRIBUTES:
         found.append("L17")
+    if isinstance(node, ast.Attribute) and isinstance(node.ctx, ast.Store):
+        if node.attr in UNUSED_VALUES:
+            found.append("L26")
+        if node.attr in methods:
+            found.append("L18")
     if isinstance(node, ast.Call):
         found += call_faults(node, methods)
     return found

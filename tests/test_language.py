@@ -37,6 +37,7 @@ WRONG = (
     ("L22", "def f(xs):\n    return sorted(xs, key=len, other=1)"),
     ("L23", "def f():\n    x = range(3)"),
     ("L25", "def f(x):\n    x.sort()"),
+    ("L26", "class A:\n    def __init__(self):\n        self.items = 1"),
     ("L27", "x = 'a %'"),
     ("L27", "def f(n):\n    return 2 ** n"),
 )
@@ -119,6 +120,10 @@ class Language(unittest.TestCase):
         for rule, source in WRONG:
             with self.subTest(rule=rule, source=source[:40]):
                 self.assertIn(rule, [fault[0] for fault in faults(source)])
+
+    def test_a_name_that_is_a_method_and_a_value_is_found(self):
+        source = "class A:\n    def __init__(self):\n        self.a = 1\n        self.b = 1"
+        self.assertEqual(faults(source, {"b"}), [("L18", 4)])
 
     def test_what_is_right_is_let_by(self):
         source = ('"""A file."""\n\nWORDS = ("a", "b")\n\n\ndef f(xs):\n    """Why."""\n'

@@ -4,12 +4,11 @@ import unittest
 
 from asitruns.guest.rows import number_of, read
 from asitruns.guest.steps import begin, do_row
+from helper import WORDS, Same, altered
 
 BOXES = (11, 22, 33, 44, 55, 66, 77, 88)
 MARKS = (True, False, True)
 SAVED = (9, (False, True, False))
-WORDS = ("halt", "put", "add", "sub", "mul", "bad", "div", "get",
-         "set", "jump", "when", "go", "tell", "hear", "right", "back")
 
 
 def state_with(row, place=3, boxes=BOXES, marks=MARKS, saved=SAVED, rights=(7, 7), cells=(500,) * 16):
@@ -18,30 +17,13 @@ def state_with(row, place=3, boxes=BOXES, marks=MARKS, saved=SAVED, rights=(7, 7
     return (place, boxes, marks, saved, rights, cells)
 
 
-def altered(state, **parts):
-    """The state with some of its parts, told by their names, exchanged."""
-    names = ("place", "boxes", "marks", "saved", "rights", "cells")
-    return tuple([parts.get(name, part) for name, part in zip(names, state)])
-
-
 def boxes_with(**boxes):
     """The usual boxes with some, called b0 to b7, exchanged."""
     return tuple([boxes.get(f"b{k}", BOXES[k]) for k in range(8)])
 
 
-def kinds_of(value):
-    """The kinds of a value and of all that is in it."""
-    if isinstance(value, tuple):
-        return (tuple, tuple([kinds_of(part) for part in value]))
-    return type(value)
-
-
-class Begin(unittest.TestCase):
+class Begin(Same):
     """Point 6."""
-
-    def same(self, told, asked):
-        self.assertEqual(told, asked)
-        self.assertEqual(kinds_of(told), kinds_of(asked))
 
     def test_cells_and_rights(self):
         cells = tuple(range(100, 116))
@@ -58,7 +40,7 @@ class Begin(unittest.TestCase):
         self.assertEqual(state[5], (65535,) * 128)
 
 
-class Rows(unittest.TestCase):
+class Rows(Same):
     """What the tests of point 7 ask again and again."""
 
     def goes_on(self, state, told=(), heard=0, **parts):
@@ -69,10 +51,6 @@ class Rows(unittest.TestCase):
 
     def faults(self, state, how, heard=0):
         self.same(do_row(state, heard), (how, state, ()))
-
-    def same(self, told, asked):
-        self.assertEqual(told, asked)
-        self.assertEqual(kinds_of(told), kinds_of(asked))
 
 
 class Closed(Rows):

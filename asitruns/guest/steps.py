@@ -107,9 +107,14 @@ def is_when(a, marks):
     return marks[a // 2] == (a % 2 == 0)
 
 
+def leap_place(place, c):
+    """The place that a row at the place leaps to."""
+    return (place + 1 + c - 32) % 65536
+
+
 def do_leap(state, c):
     """What jump does, and when where it is so."""
-    return on(moved(state, state[PLACE] + 1 + c - 32))
+    return on(moved(state, leap_place(state[PLACE], c)))
 
 
 def do_right(state, page, rights):

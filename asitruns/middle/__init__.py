@@ -1,0 +1,1 @@
+"""The middle: blocks of guest rows, led to tables of nodes."""
