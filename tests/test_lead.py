@@ -2,28 +2,19 @@
 
 import unittest
 
-from asitruns.guest.rows import number_of, read
+from asitruns.guest.rows import number_of
 from asitruns.guest.runs import run
 from asitruns.guest.steps import do_row
 from asitruns.middle.blocks import block_at
 from asitruns.middle.lead import lead
 from asitruns.middle.nodes import under, worths
-from helper import WORDS, Same, altered, kinds_of, mixed, program, state_of
-
-FIRST = (("box", 0), ("box", 1), ("box", 2), ("box", 3), ("box", 4), ("box", 5), ("box", 6), ("box", 7),
-         ("mark", 0), ("mark", 1), ("mark", 2))
-BOXES = (0, 1, 2, 3, 4, 5, 6, 7)
-MARKS = (8, 9, 10)
+from helper import BOXES, FIRST, MARKS, WORDS, Same, altered, kinds_of, mixed, program, rows_of, state_of
 
 # Two rows ahead of the one that is looked at: they fill box 1 (node 15), box 2 (node 11) and the marks.
 FILLING = ("add 2 3 4", "put 1 0 9")
 FILLED = FIRST + (("add", 3, 4), ("nought", 11), ("high", 11), ("over", 3, 4), ("num", 9))
 FILLED_BOXES = (0, 15, 11, 3, 4, 5, 6, 7)
 FILLED_MARKS = (12, 13, 14)
-
-
-def rows_of(*rows):
-    return read("\n".join(rows))
 
 
 class Leading(Same):
