@@ -19,6 +19,10 @@ FIRST = (("box", 0), ("box", 1), ("box", 2), ("box", 3), ("box", 4), ("box", 5),
 BOXES = (0, 1, 2, 3, 4, 5, 6, 7)
 MARKS = (8, 9, 10)
 
+# Words of nodes that are worth a number, and of those that are worth a truth.
+NUMBERS = ("num", "box", "item", "add", "sub", "mul")
+TRUTHS = ("mark", "nought", "high", "over", "under", "wide", "rest", "yes", "no")
+
 RULES = ("swap", "group", "ungroup", "subnum", "zero", "one", "nil", "self", "count", "sure", "never")
 
 
@@ -299,6 +303,74 @@ def renumbered(block, paper, order):
         numbers = all_new(numbers[:1]) + numbers[1:]
     likes = tuple([like and (new[like[0]], tuple([(rule, new[n]) for rule, n in like[1]])) for like in paper[1]])
     return (block[:2] + (nodes, led, (word, numbers, all_new(boxes), all_new(marks))), (paper[0], likes))
+
+
+class FreeBlock:
+    """A middle block that is led of no rows: nodes and items by choices in no order.
+
+    Each item and the exit hang on items ahead alone; an item's node may stand anywhere in the table.
+    """
+
+    def __init__(self, seed, most_nodes, most_items):
+        self.numbers = mixed(seed, 3000)
+        self.rows = tuple(mixed(seed + 1, 1 + self.choice(60)))
+        words = ("get", "get", "set", "div", "tell", "hear", "right")
+        self.words = [words[self.choice(7)] for k in range(self.choice(most_items + 1))]
+        self.nodes = []
+        # Behind how many items a node is known.
+        self.known = []
+        for node in [("num", self.choice(40)), ("yes",), ("box", self.choice(8)), ("mark", self.choice(3))]:
+            self.put(node, 0)
+        for k in range(self.choice(most_nodes - 3)):
+            self.put_some()
+
+    def choice(self, many):
+        self.numbers.append(self.numbers.pop(0))
+        return self.numbers[-1] // 5 % many
+
+    def put(self, node, known):
+        self.nodes.append(node)
+        self.known.append(known)
+
+    def pick(self, words, known):
+        """A node of one of these words that is known behind so many items."""
+        found = [number for number, node in enumerate(self.nodes) if node[0] in words and self.known[number] <= known]
+        # Later ones mostly, so that nodes hang on many others.
+        return found[-1 - self.choice(1 + self.choice(len(found)))]
+
+    def put_some(self):
+        word = ("num", "box", "mark", "item", "item", "add", "add", "sub", "sub", "mul", "nought", "high", "over",
+                "under", "wide", "rest", "yes", "no")[self.choice(18)]
+        if word in ("yes", "no"):
+            self.put((word,), 0)
+        elif word in ("num", "box", "mark"):
+            self.put((word, self.choice({"num": 70, "box": 8, "mark": 3}[word])), 0)
+        elif word == "item":
+            bringing = [k for k, other in enumerate(self.words) if other in ("get", "div", "hear")]
+            if bringing:
+                k = bringing[self.choice(len(bringing))]
+                self.put((word, k), k + 1)
+        else:
+            many = 1 if word in ("nought", "high") else 2
+            named = tuple([self.pick(NUMBERS, len(self.words)) for k in range(many)])
+            self.put((word,) + named, max([self.known[number] for number in named]))
+
+    def standing(self, known):
+        """Nodes for boxes and marks."""
+        boxes = tuple([self.pick(NUMBERS, known) for k in range(8)])
+        return (boxes, tuple([self.pick(TRUTHS, known) for k in range(3)]))
+
+    def make(self, place):
+        led = []
+        for k, word in enumerate(self.words):
+            many = {"get": 2, "set": 3, "div": 2, "tell": 1, "hear": 0, "right": 2}[word]
+            numbers = tuple([self.pick(NUMBERS, k) for number in range(many)])
+            led.append((word, self.choice(len(self.rows)), numbers) + self.standing(k))
+        last = len(self.words)
+        word = ("halt", "bad", "on", "when", "go", "back")[self.choice(6)]
+        numbers = {"on": (self.choice(65536),), "go": (self.pick(NUMBERS, last),),
+                   "when": (self.pick(TRUTHS, last), self.choice(65536), self.choice(65536))}.get(word, ())
+        return (place, self.rows, tuple(self.nodes), tuple(led), (word, numbers) + self.standing(last))
 
 
 def paths_of(value):
