@@ -373,6 +373,71 @@ class FreeBlock:
         return (place, self.rows, tuple(self.nodes), tuple(led), (word, numbers) + self.standing(last))
 
 
+class Choices:
+    """Choices in no order, the same ones for the same seed."""
+
+    def __init__(self, seed):
+        self.numbers = mixed(seed, 2000)
+
+    def below(self, many):
+        self.numbers.append(self.numbers.pop(0))
+        return self.numbers[-1] // 3 % many
+
+    def of(self, things):
+        return things[self.below(len(things))]
+
+
+# Words of rows in a busy program, those that are wanted oftener several times.
+BUSY = ("put",) * 6 + ("add",) * 5 + ("sub",) * 4 + ("mul",) * 2 + ("get",) * 4 + ("set",) * 4 + ("jump",) * 3 + \
+    ("when",) * 4 + ("tell",) * 3 + ("hear",) * 3 + ("div", "go", "right", "back", "halt", "bad")
+
+
+def busy_row(choices, place, many):
+    """A row of a program of so many cells that leaps within them, and gets and sets its own cells."""
+    word = choices.of(BUSY)
+    a, b, c = choices.below(8), choices.below(8), choices.below(64)
+    if word in ("get", "set"):
+        b, c = choices.of((0, 0, b)), choices.below(min(64, many))
+    elif word in ("jump", "when"):
+        c = max(0, min(63, choices.below(many) - place - 1 + 32))
+    elif word == "put":
+        c = choices.of((choices.below(many) % 64, choices.below(4), c))
+    elif word in ("halt", "bad") and choices.below(4):
+        word = "tell"
+    return number_of((word, a, b, c))
+
+
+def busy_run(seed):
+    """A state of a busy program, with givens, bells and their place."""
+    choices = Choices(seed)
+    pages = choices.of((1, 2, 3, 4, 8, 16))
+    many = pages * 8
+    cells = tuple([busy_row(choices, place, many) for place in range(many)])
+    boxes = [choices.of((0, 0, 0, 3))]
+    boxes += [choices.of((choices.below(many), choices.below(65536), 0, 1, choices.of(cells))) for k in range(7)]
+    marks = tuple([choices.below(2) == 0 for k in range(3)])
+    saved = choices.of((None, None, (choices.below(many), (True, False, True))))
+    rights = tuple([choices.of((7,) * 6 + (choices.below(8),)) for page in range(pages)])
+    state = (choices.below(many), tuple(boxes), marks, saved, rights, cells)
+    given = [choices.below(65536) for k in range(choices.below(10))]
+    bells = sorted({choices.below(120) for k in range(choices.below(12))})
+    return (state, given, bells, choices.of((choices.below(many), choices.below(many + 3))))
+
+
+def some_policy(seed):
+    """None to five numbers: of those that make, of any, and of sixty figures below and above nought."""
+    choices = Choices(seed + 11)
+    policy = []
+    for k in range(choices.below(6)):
+        great = 1
+        for step in range(12):
+            great = great * 65536 + choices.below(65536)
+        great %= 10 ** 60
+        policy.append(choices.of((1 + choices.below(4096) * 4, choices.below(16384), great, -great,
+                                  -choices.below(20000))))
+    return policy
+
+
 def paths_of(value):
     """The paths to each part of tuples within tuples, the whole first."""
     found = [()]

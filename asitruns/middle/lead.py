@@ -107,3 +107,10 @@ def lead(place, rows):
         lead_row(draft, at, set_out(number))
     left = way_out(draft, place, rows) + (tuple(draft.boxes), tuple(draft.marks))
     return (place, tuple(rows), tuple(draft.nodes), tuple(draft.led), left)
+
+
+def keeping_all(plain):
+    """The paper that keeps all of the plain block: it is its own made block."""
+    fates = [("kept", number) for number in range(len(plain[3]))]
+    likes = [(number, ()) for number in range(len(plain[2]))]
+    return (tuple(fates), tuple(likes))

@@ -1,0 +1,1 @@
+"""The keeper of made blocks, and the runner that makes and enters them."""
