@@ -4,6 +4,7 @@ import copy
 import unittest
 
 from asitruns.errors import GuestError, NoPaper, NoStep
+from asitruns.guest.rows import set_out
 from asitruns.guest.runs import run, window
 from asitruns.guest.steps import do_row
 from asitruns.host.deal import deal
@@ -13,7 +14,7 @@ from asitruns.middle.blocks import block_at
 from asitruns.middle.lead import lead
 from asitruns.middle.shorten import shorten
 from helper import (
-    Choices, Same, altered, busy_run, changed, keeping_all, mixed, row_by_row, rows_of, set_out, some_policy, state_of,
+    Choices, Maker, Same, altered, busy_run, changed, keeping_all, mixed, row_by_row, some_policy, state_of,
 )
 
 
@@ -749,8 +750,13 @@ class ManyRuns(Running):
             place = choices.below(len(runner.state()[5]))
             if choices.below(3) == 0:
                 runner.throw(place)
-            elif block_at(runner.state(), place):
+            elif block_at(runner.state(), place) and choices.below(2):
                 runner.offer(*offer_of(runner.state(), place, 1 + choices.below(60), 3 + choices.below(14)))
+            elif block_at(runner.state(), place):
+                # Made by others, in ways of their own.
+                rows = block_at(runner.state(), place, 1 + choices.below(12))
+                block, paper = Maker(place, rows, choices.below(1000)).make()
+                runner.offer(block, paper, deal(block, 3 + choices.below(14)))
 
 
 class OwnAffairs(Running):
